@@ -1,0 +1,1 @@
+"""startbits: a serial line between two unlike clocks."""

@@ -1,0 +1,109 @@
+"""Point 2: arguments stay as they are and are not kept, and results are new each time."""
+
+import copy
+import inspect
+import unittest
+
+from startbits import errors, shapes, signals
+from tests.calls import CALLS, JUDGMENTS
+
+GOOD_CALLS = [(function, valid) for function, valid, _ in CALLS] + JUDGMENTS
+GOOD_CALLS += [
+    (shapes.levels_of, {"shape": (8, "none", 1), "numbers": []}),
+    (signals.sent, {"shape": (8, "none", 1), "length": 160, "sending": []}),
+    (signals.sent_text, {"shape": (8, "none", 1), "length": 160, "numbers": [], "begin": 0}),
+    (signals.sent_unevenly, {"shape": (8, "none", 1), "numbers": [], "begin": 0, "lasts": []}),
+    (signals.moved, {"signal": [], "by": 0}),
+    (signals.moved, {"signal": [4, 9], "by": 0}),
+    (signals.multiplied, {"signal": [], "by": 1}),
+    (signals.multiplied, {"signal": [4, 9], "by": 1}),
+    (signals.together, {"one": [], "other": []}),
+    (signals.together, {"one": [4, 9], "other": []}),
+    (signals.together, {"one": [], "other": [4, 9]}),
+    (signals.together, {"one": [4, 9], "other": [4, 9]}),
+]
+
+PARAMETERS = {
+    shapes: {"is_shape": "value", "size_of": "shape", "is_number": "shape value", "parity_of": "shape number",
+             "frame_of": "shape number", "number_of": "shape value", "levels_of": "shape numbers"},
+    signals: {"is_signal": "value", "level_at": "signal tick", "runs_between": "signal begin end",
+              "sent": "shape length sending", "sent_text": "shape length numbers begin",
+              "sent_unevenly": "shape numbers begin lasts", "moved": "signal by", "multiplied": "signal by",
+              "together": "one other"},
+}
+
+
+def lists_in(value):
+    """All lists in a value, itself included."""
+    if not isinstance(value, (list, tuple)):
+        return []
+    inner = [part for item in value for part in lists_in(item)]
+    return inner + [value] if isinstance(value, list) else inner
+
+
+class ConventionTest(unittest.TestCase):
+    def test_arguments_by_position_and_by_name(self):
+        for function, valid in GOOD_CALLS:
+            self.assertEqual(function(*valid.values()), function(**valid), function.__name__)
+            turned = dict(reversed(list(valid.items())))
+            self.assertEqual(function(**turned), function(**valid), function.__name__)
+
+    def test_arguments_stay_as_they_are(self):
+        for function, valid in GOOD_CALLS:
+            told = copy.deepcopy(valid)
+            function(**told)
+            self.assertEqual(told, valid, function.__name__)
+
+    def test_arguments_stay_as_they_are_behind_an_error(self):
+        one, other = list(range(800)), [900]
+        with self.assertRaises(errors.TooLarge):
+            signals.together(one, other)
+        self.assertEqual((one, other), (list(range(800)), [900]))
+
+    def test_results_are_new_lists(self):
+        for function, valid in GOOD_CALLS:
+            arguments = copy.deepcopy(valid)
+            lists = lists_in(function(**arguments)) + lists_in(function(**arguments))
+            lists += lists_in(list(arguments.values()))
+            self.assertEqual(len({id(part) for part in lists}), len(lists), function.__name__)
+
+    def test_changed_results_play_no_part_later(self):
+        for function, valid in GOOD_CALLS:
+            first = function(**copy.deepcopy(valid))
+            expected = copy.deepcopy(first)
+            for part in lists_in(first):
+                part.append("more")
+                part.reverse()
+            self.assertEqual(function(**copy.deepcopy(valid)), expected, function.__name__)
+
+    def test_changed_arguments_play_no_part_later(self):
+        for function, valid in GOOD_CALLS:
+            arguments = copy.deepcopy(valid)
+            result = function(**arguments)
+            expected = copy.deepcopy(result)
+            for argument in arguments.values():
+                if isinstance(argument, list):
+                    argument.clear()
+            self.assertEqual(result, expected, function.__name__)
+            self.assertEqual(function(**copy.deepcopy(valid)), expected, function.__name__)
+
+    def test_results_may_be_passed_on(self):
+        signal = signals.sent_text((8, "none", 1), 160, [65, 66], -5)
+        wider = signals.multiplied(signals.moved(signal, 10 ** 20), 3)
+        self.assertEqual(signals.together(wider, wider), wider)
+        self.assertEqual(signals.level_at(wider, wider[0]), 0)
+        self.assertEqual(shapes.number_of((8, "none", 1), shapes.frame_of((8, "none", 1), 65)), 65)
+
+
+class InterfaceTest(unittest.TestCase):
+    def test_functions_stand_in_their_files_with_their_arguments(self):
+        for module, functions in PARAMETERS.items():
+            for name, parameters in functions.items():
+                function = getattr(module, name)
+                self.assertTrue(inspect.isfunction(function))
+                self.assertEqual(function.__module__, module.__name__)
+                self.assertEqual(list(inspect.signature(function).parameters), parameters.split())
+
+
+if __name__ == "__main__":
+    unittest.main()

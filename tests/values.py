@@ -1,0 +1,112 @@
+"""Values of any kind: what is wrong for each kind of argument, and the error that tells it."""
+
+from startbits import errors
+
+
+class SaysYes:
+    """A value that claims to be equal to everything."""
+
+    def __eq__(self, other):
+        return True
+
+    def __ne__(self, other):
+        return False
+
+
+class SaysNothing:
+    """A value that fails when it is compared or shown."""
+
+    def __eq__(self, other):
+        raise RuntimeError
+
+    def __repr__(self):
+        raise RuntimeError
+
+    __hash__ = None
+
+
+def recursive_list():
+    value = []
+    value.append(value)
+    return value
+
+
+HUGE = 10 ** 5000
+
+NO_INTEGERS = [None, True, False, 0.0, 1.0, 1.5, float("nan"), float("inf"), 1j, "", "1", b"1", [], [1], (), (1,),
+               {}, {1: 1}, {1}, frozenset([1]), range(3), object(), int, len, SaysYes(), SaysNothing(),
+               recursive_list()]
+NO_LISTS = [value for value in NO_INTEGERS if not isinstance(value, list)] + [0, 1, -1, HUGE, (0, 1), (0, 3, 7), "01"]
+NO_TUPLES = [value for value in NO_INTEGERS if not isinstance(value, tuple)] + [0, 1, HUGE, "8n1"]
+
+
+def told(error, values, **fields):
+    """Each value with the error and the fields that it must raise."""
+    return [(value, error, fields) for value in values]
+
+
+def shape_faults():
+    shaped = told(errors.InvalidShape, NO_TUPLES + [[8, "none", 1], (), (8,), (8, "none"), (8, "none", 1, 1)],
+                  index=None)
+    shaped += told(errors.InvalidShape, [(bits, "none", 1) for bits in NO_INTEGERS + [0, 10, -1, HUGE]], index=0)
+    shaped += told(errors.InvalidShape, [(0, "None", 3), (True, None, True), ("8", "none", 1)], index=0)
+    words = NO_INTEGERS + [0, 1, "None", "none ", "n", "EVEN", b"even", ["odd"], "mark"]
+    shaped += told(errors.InvalidShape, [(8, word, 1) for word in words] + [(8, "n", 3)], index=1)
+    shaped += told(errors.InvalidShape, [(8, "odd", stops) for stops in NO_INTEGERS + [0, 3, -1, HUGE]], index=2)
+    return shaped
+
+
+def number_faults(bits):
+    """What is no number of a shape with so many bits."""
+    return told(errors.InvalidNumber, NO_INTEGERS + [-1, 1 << bits, HUGE, -HUGE])
+
+
+def text_faults(bits):
+    """What is no text of a shape with so many bits."""
+    wrong = NO_INTEGERS + [-1, 1 << bits, HUGE]
+    return (told(errors.InvalidText, NO_LISTS + [[0] * 61, [None] * 61], index=None)
+            + told(errors.InvalidText, [[number] for number in wrong] + [[-1, -1], [True] + [0] * 59], index=0)
+            + told(errors.InvalidText, [[0, number, 0] for number in wrong] + [[1, -1, "x"]], index=1)
+            + told(errors.InvalidText, [[0] * 59 + [1 << bits]], index=59))
+
+
+def integer_faults(error, beyond):
+    """What is no integer, and the integers that may not stand there."""
+    return told(error, NO_INTEGERS + beyond)
+
+
+def signal_faults():
+    full = list(range(800))
+    return (told(errors.InvalidSignal, NO_LISTS + [list(range(801)), [None] * 801, [0] * 801], index=None)
+            + told(errors.InvalidSignal, [[tick] for tick in NO_INTEGERS] + [[None, 3, 2], ["a"] * 800], index=0)
+            + told(errors.InvalidSignal, [[0, tick, 5] for tick in NO_INTEGERS], index=1)
+            + told(errors.InvalidSignal, [[0, 0], [3, 2, 4], [0, -1, "x"], [HUGE, 1]], index=1)
+            + told(errors.InvalidSignal, [[-2, -1, -1], [0, 3, 3, 2], [0, 3, True]], index=2)
+            + told(errors.InvalidSignal, [full[:-1] + [798], full[:-1] + ["x"]], index=799))
+
+
+def sending_faults(bits, frame_ticks):
+    """What is no sending of a shape with so many bits, if a frame lasts so many ticks."""
+    numbers = NO_INTEGERS + [-1, 1 << bits]
+    items = [value for value in NO_TUPLES if not isinstance(value, list)] + [[0, 0], (), (0,), (0, 0, 0)]
+    items += [(tick, 0) for tick in NO_INTEGERS] + [(0, number) for number in numbers]
+    full = [(frame_ticks * at, 0) for at in range(61)]
+    behind = (frame_ticks - 1, 0)
+    return (told(errors.InvalidSending, NO_LISTS + [full, [None] * 61, ((0, 0),)], index=None)
+            + told(errors.InvalidSending, [[item] for item in items] + [[(0, -1), behind]], index=0)
+            + told(errors.InvalidSending, [[(-frame_ticks, 0), item] for item in items], index=1)
+            + told(errors.InvalidSending, [[(0, 0), behind], [(0, 0), (0, 0)], [(0, 0), (-1, 0)]], index=1)
+            + told(errors.InvalidSending, [[(0, 0), behind, None]], index=1)
+            + told(errors.InvalidSending, [full[:2] + [(2 * frame_ticks - 1, 0)]], index=2)
+            + told(errors.InvalidSending, [full[:59] + [(frame_ticks * 59 - 1, 0)], full[:59] + [(0,)]], index=59))
+
+
+def lasts_faults(many):
+    """What is no list of just so many lengths."""
+    wrong = NO_INTEGERS + [0, -1, -HUGE]
+    rest = [1] * (many - 1)
+    return (told(errors.InvalidLengths, NO_LISTS + [[], rest, rest + [1, 1], rest + [0, 0], tuple(rest + [1])],
+                 index=None)
+            + told(errors.InvalidLengths, [[ticks] + rest for ticks in wrong] + [[0] * many], index=0)
+            + told(errors.InvalidLengths, [rest + [ticks] for ticks in wrong], index=many - 1)
+            + told(errors.InvalidLengths, [[1, 0, *rest[2:], None]], index=1))
