@@ -4,8 +4,8 @@ Messages never show an argument: it may be any value, and Python refuses to
 write out very long integers.
 """
 
-from startbits.errors import InvalidLength, InvalidNumber, InvalidShape
-from startbits.errors import InvalidSignal, InvalidText, InvalidTick
+from startbits.errors import InvalidLength, InvalidNumber, InvalidPhase, InvalidReceiver
+from startbits.errors import InvalidShape, InvalidSignal, InvalidText, InvalidTick
 
 PARITIES = ("none", "even", "odd")
 MOST_BITS = 9
@@ -71,17 +71,60 @@ def check_number(shape, number):
 
 def check_text(shape, numbers):
     """Raise InvalidText unless any value is a text of a valid shape."""
-    if not is_list_up_to(MOST_NUMBERS, numbers):
+    check_text_between(0, MOST_NUMBERS, shape, numbers)
+
+
+def check_text_between(least, most, shape, numbers):
+    """Raise InvalidText unless any value is a text of so many numbers of a valid shape."""
+    if not is_list_up_to(most, numbers) or len(numbers) < least:
         raise InvalidText(None)
     for index, number in enumerate(numbers):
         if not fits(shape, number):
             raise InvalidText(index)
 
 
+def check_int_from(least, number):
+    """Raise InvalidNumber unless any value is an integer that is not below the least one."""
+    if not is_int_from(least, number):
+        raise InvalidNumber(f"this is no integer from {least} on")
+
+
 def check_length(length):
     """Raise InvalidLength unless any value is a length."""
     if not is_int_from(1, length):
         raise InvalidLength("a length is an integer from 1 on")
+
+
+def check_receiver(receiver):
+    """Raise InvalidReceiver unless any value is a receiver."""
+    if not isinstance(receiver, tuple) or len(receiver) != 3:
+        raise InvalidReceiver(None)
+    grain, wait, step = receiver
+    if not is_int_from(1, grain):
+        raise InvalidReceiver(0)
+    if not is_int_from(0, wait):
+        raise InvalidReceiver(1)
+    if not is_int_from(1, step):
+        raise InvalidReceiver(2)
+
+
+def check_phase(phase):
+    """Raise InvalidPhase unless any value is a phase."""
+    if not is_int(phase):
+        raise InvalidPhase("a phase is an integer")
+
+
+def check_first_phase(receiver, phase):
+    """Raise InvalidPhase unless any value is a phase from 0 to the grain of a valid receiver minus 1."""
+    if not is_int_between(0, receiver[0] - 1, phase):
+        raise InvalidPhase("this phase is an integer from 0 to the grain minus 1")
+
+
+def check_speed(shape, receiver, length):
+    """Raise the error of the first of these values that is none of its kind."""
+    check_shape(shape)
+    check_receiver(receiver)
+    check_length(length)
 
 
 def check_tick(tick):

@@ -51,7 +51,7 @@ def sent(shape, length, sending):
     lasts = [length] * size_of(shape)
     signal = []
     for tick, number in sending:
-        signal.extend(_changes_of(frame_of(shape, number), tick, lasts))
+        signal.extend(changes_of(frame_of(shape, number), tick, lasts))
     return signal
 
 
@@ -62,7 +62,7 @@ def sent_text(shape, length, numbers, begin):
     check_text(shape, numbers)
     check_tick(begin)
     levels = levels_of(shape, numbers)
-    return _changes_of(levels, begin, [length] * len(levels))
+    return changes_of(levels, begin, [length] * len(levels))
 
 
 def sent_unevenly(shape, numbers, begin, lasts):
@@ -72,7 +72,7 @@ def sent_unevenly(shape, numbers, begin, lasts):
     check_tick(begin)
     levels = levels_of(shape, numbers)
     _check_lasts(len(levels), lasts)
-    return _changes_of(levels, begin, lasts)
+    return changes_of(levels, begin, lasts)
 
 
 def moved(signal, by):
@@ -108,16 +108,7 @@ def together(one, other):
     return signal
 
 
-def _turn_over(signal, tick):
-    """Turn the level over from a tick on that is not ahead of the last change."""
-    # Two changes at one tick leave the level as it was: then there is none.
-    if signal and signal[-1] == tick:
-        signal.pop()
-    else:
-        signal.append(tick)
-
-
-def _changes_of(levels, begin, lasts):
+def changes_of(levels, begin, lasts):
     """The ticks at which levels that begin on a quiet line differ from the one before."""
     changes = []
     before = 1
@@ -128,6 +119,15 @@ def _changes_of(levels, begin, lasts):
         before = level
         tick = tick + ticks
     return changes
+
+
+def _turn_over(signal, tick):
+    """Turn the level over from a tick on that is not ahead of the last change."""
+    # Two changes at one tick leave the level as it was: then there is none.
+    if signal and signal[-1] == tick:
+        signal.pop()
+    else:
+        signal.append(tick)
 
 
 def _check_sending(shape, length, sending):

@@ -4,7 +4,7 @@ import copy
 import inspect
 import unittest
 
-from startbits import errors, shapes, signals
+from startbits import bits, drift, errors, lengths, lone, midst, readings, shapes, signals, speeds
 from tests.calls import CALLS, JUDGMENTS
 
 GOOD_CALLS = [(function, valid) for function, valid, _ in CALLS] + JUDGMENTS
@@ -21,6 +21,15 @@ GOOD_CALLS += [
     (signals.together, {"one": [4, 9], "other": []}),
     (signals.together, {"one": [], "other": [4, 9]}),
     (signals.together, {"one": [4, 9], "other": [4, 9]}),
+    (readings.readings, {"shape": (1, "none", 1), "receiver": (1, 0, 1), "phase": 0, "signal": []}),
+    (lone.silent_numbers, {"shape": (1, "none", 1), "receiver": (100, 0, 1), "length": 40, "phase": 50}),
+    (lone.lengths_as, {"shape": (1, "none", 1), "receiver": (100, 0, 1), "phase": 50, "number": 0, "numbers": [],
+                       "most": 10 ** 20}),
+    (bits.parsed, {"shape": (1, "none", 1), "levels": [], "begin": 0}),
+    (bits.places_along, {"shape": (1, "none", 1), "place": 2, "numbers": []}),
+    (midst.step_text, {"shape": (2, "none", 1), "numbers": [2, 1]}),
+    (midst.lasting_places, {"shape": (8, "none", 1), "numbers": [85]}),
+    (midst.silence_paper, {"shape": (2, "even", 1), "numbers": [3], "many": 60}),
 ]
 
 PARAMETERS = {
@@ -30,6 +39,24 @@ PARAMETERS = {
               "sent": "shape length sending", "sent_text": "shape length numbers begin",
               "sent_unevenly": "shape numbers begin lasts", "moved": "signal by", "multiplied": "signal by",
               "together": "one other"},
+    readings: {"is_receiver": "value", "first_look": "receiver phase tick", "looks_of": "shape receiver tick",
+               "readings": "shape receiver phase signal", "is_read_right": "shape receiver phase signal numbers",
+               "state_behind": "shape receiver phase signal tick"},
+    speeds: {"safe_lengths": "shape receiver", "is_safe": "shape receiver length",
+             "margin": "shape receiver length", "safe_grains": "shape wait step length",
+             "safe_waits": "shape grain step length", "safe_steps": "shape grain wait length",
+             "best_wait": "shape grain step length", "is_safe_span": "shape receiver low high",
+             "misread_paper": "shape receiver length", "shows_misread": "shape receiver length value"},
+    drift: {"offset_of": "shape receiver length phase index", "good_offsets": "shape receiver length",
+            "first_risk": "shape receiver length phase", "count_risks": "shape receiver length phase many",
+            "lasting_phases": "shape receiver length", "risk_numbers": "shape receiver length phase"},
+    lengths: {"lengths_for": "shape receiver phase numbers most", "next_change": "shape receiver phase numbers length"},
+    lone: {"read_alone": "shape receiver length phase number", "silent_numbers": "shape receiver length phase",
+           "lengths_as": "shape receiver phase number numbers most"},
+    bits: {"parsed": "shape levels begin", "places_along": "shape place numbers",
+           "place_behind": "shape place numbers"},
+    midst: {"step_text": "shape numbers", "lasting_places": "shape numbers", "greatest_silence": "shape numbers",
+            "silence_paper": "shape numbers many", "shows_silence": "shape numbers many value"},
 }
 
 

@@ -42,6 +42,9 @@ NO_WORDS = """
     NamedTuple TypedDict TYPE_CHECKING abstractmethod dataclass overload contextmanager
 """.split()
 
+# L2, of which the package uses this much so far.
+LIBRARY = [("math", "gcd")]
+
 IMPORTED = re.compile(r"startbits\.([a-z_]+)\Z")
 
 
@@ -117,6 +120,8 @@ class LanguageTest(unittest.TestCase):
         for name, tree in self.trees.items():
             needs[name] = set()
             for module, imported in imports_of(tree):
+                if (module, imported) in LIBRARY:
+                    continue
                 self.assertRegex(module, IMPORTED, name)
                 source = IMPORTED.match(module).group(1)
                 needs[name].add(source)

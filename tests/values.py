@@ -110,3 +110,41 @@ def lasts_faults(many):
             + told(errors.InvalidLengths, [[ticks] + rest for ticks in wrong] + [[0] * many], index=0)
             + told(errors.InvalidLengths, [rest + [ticks] for ticks in wrong], index=many - 1)
             + told(errors.InvalidLengths, [[1, 0, *rest[2:], None]], index=1))
+
+
+def receiver_faults():
+    """What is no receiver."""
+    faults = told(errors.InvalidReceiver, NO_TUPLES + [[10, 8, 16], (), (10,), (10, 8), (10, 8, 16, 1)], index=None)
+    faults += told(errors.InvalidReceiver, [(grain, 8, 16) for grain in NO_INTEGERS + [0, -1, -HUGE]], index=0)
+    faults += told(errors.InvalidReceiver, [(0, -1, 0), (None, None, None), (True, 8, 16)], index=0)
+    faults += told(errors.InvalidReceiver, [(10, wait, 16) for wait in NO_INTEGERS + [-1, -HUGE]], index=1)
+    faults += told(errors.InvalidReceiver, [(10, -1, 0), (10, False, True)], index=1)
+    faults += told(errors.InvalidReceiver, [(10, 0, step) for step in NO_INTEGERS + [0, -1, -HUGE]], index=2)
+    return faults
+
+
+def short_text_faults(bits, least, most):
+    """What is no list of so many numbers of a shape with so many bits."""
+    wrong = NO_INTEGERS + [-1, 1 << bits, HUGE]
+    lists = [[0] * (most + 1), [None] * (most + 1)] + [[]] * least
+    return (told(errors.InvalidText, NO_LISTS + lists, index=None)
+            + told(errors.InvalidText, [[number] for number in wrong] + [[-1, -1], [True, 0]], index=0)
+            + told(errors.InvalidText, [[0, number, 1] for number in wrong] + [[1, -1, "x"]], index=1)
+            + told(errors.InvalidText, [list(range(most - 1)) + [1 << bits]], index=most - 1))
+
+
+def allowed_faults(bits):
+    """What is no list of 1 to 20 different numbers of a shape with so many bits, which has 20 of them."""
+    return (short_text_faults(bits, 1, 20)
+            + told(errors.InvalidText, [[0, 0], [3, 3, -1], [2, 2, None]], index=1)
+            + told(errors.InvalidText, [[3, 1, 3], [0, 1, 0, 1], [0, 1, True]], index=2)
+            + told(errors.InvalidText, [list(range(19)) + [7], list(range(19)) + [18]], index=19))
+
+
+def levels_faults():
+    """What is no list of at most 800 levels."""
+    wrong = NO_INTEGERS + [2, -1, HUGE]
+    return (told(errors.InvalidLevels, NO_LISTS + [[0] * 801, [None] * 801, (0, 1)], index=None)
+            + told(errors.InvalidLevels, [[level] for level in wrong] + [[2, 2], [True, 0]], index=0)
+            + told(errors.InvalidLevels, [[0, level, 1] for level in wrong] + [[1, -1, "x"]], index=1)
+            + told(errors.InvalidLevels, [[1] * 799 + [level] for level in (2, True, None)], index=799))
