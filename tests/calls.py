@@ -1,6 +1,7 @@
 """Each function that raises errors, with a valid call and what is wrong for each argument."""
 
-from startbits import bits, drift, errors, lengths, lone, midst, readings, shapes, signals, speeds
+from startbits import bits, drift, errors, lengths, lone, midst, mixed, readings, records, shapes, signals, speeds
+from startbits import telling
 from tests import values
 
 SHAPE = (3, "even", 1)
@@ -144,7 +145,46 @@ MIDST_CALLS = [
      {**ALLOWED_AND_SHAPE_FAULTS, "many": MANY_FAULTS}),
 ]
 
+TWO_SHAPES = {"shape": SHAPE, "other": (2, "none", 1)}
+TWO_SHAPES_FAULTS = {"shape": SHAPE_FAULTS, "other": SHAPE_FAULTS}
+
+MIXED_CALLS = [
+    (mixed.read_by, {**TWO_SHAPES, "numbers": [5, 0]}, {**TWO_SHAPES_FAULTS, "numbers": TEXT_FAULTS}),
+    (mixed.is_read_by, TWO_SHAPES, TWO_SHAPES_FAULTS),
+    (mixed.wrong_text, TWO_SHAPES, TWO_SHAPES_FAULTS),
+    (mixed.silent_text, TWO_SHAPES, TWO_SHAPES_FAULTS),
+]
+
+# With levels of 2 to 4 ticks this is a signal of [3] and of [7, 7].
+RECORD = {"shape": (3, "none", 1), "low": 2, "high": 4, "signal": [0, 2, 10, 12]}
+SHORT_SIGNAL_FAULTS = values.short_signal_faults(200)
+RECORD_FAULTS = {"shape": SHAPE_FAULTS, "low": LENGTH_FAULTS, "high": integers_from(errors.InvalidLength, 2),
+                 "signal": SHORT_SIGNAL_FAULTS}
+INDEX_FAULTS = values.integer_faults(errors.InvalidNumber, [-1, 2, 3, BIG, -BIG])
+
+RECORD_CALLS = [
+    (records.is_possible, RECORD, RECORD_FAULTS),
+    (records.count_texts, RECORD, RECORD_FAULTS),
+    (records.nth_text, {**RECORD, "index": 1}, {**RECORD_FAULTS, "index": INDEX_FAULTS}),
+    (records.text_index, {**RECORD, "numbers": [7, 7]},
+     {**RECORD_FAULTS, "numbers": values.short_text_faults(BITS, 0, 100)}),
+    (records.fewest_numbers, RECORD, RECORD_FAULTS),
+    (records.most_numbers, RECORD, RECORD_FAULTS),
+    (records.sure_numbers, RECORD, RECORD_FAULTS),
+    (records.least_high, {"shape": (3, "none", 1), "low": 2, "signal": [0, 2, 10, 12]},
+     {"shape": SHAPE_FAULTS, "low": LENGTH_FAULTS, "signal": SHORT_SIGNAL_FAULTS}),
+]
+
+TELLING_CALLS = [
+    (telling.lengths_of, {"shape": (2, "none", 1), "signal": [0, 6]},
+     {"shape": SHAPE_FAULTS, "signal": SIGNAL_FAULTS}),
+    (telling.likenesses, {"shape": SHAPE, "number": 5}, {"shape": SHAPE_FAULTS, "number": NUMBER_FAULTS}),
+    (telling.telling_numbers, {"shape": SHAPE, "lengths": [10, 15, 20]},
+     {"shape": SHAPE_FAULTS, "lengths": values.ascending_lengths_faults()}),
+]
+
 CALLS = SHAPE_CALLS + SIGNAL_CALLS + READING_CALLS + SPEED_CALLS + DRIFT_CALLS + LENGTH_CALLS + BIT_CALLS + MIDST_CALLS
+CALLS += MIXED_CALLS + RECORD_CALLS + TELLING_CALLS
 
 # The functions that judge any value and raise no error.
 JUDGMENTS = [(shapes.is_shape, {"value": SHAPE}), (signals.is_signal, {"value": [0, 3, 7]}),

@@ -108,6 +108,14 @@ def plain_readings(shape, receiver, phase, signal):
     return line.readings
 
 
+def plain_parsed(shape, levels, begin):
+    """The readings of a list of levels, look by look."""
+    line = PlainReceiver(shape, (1, 0, 1))
+    for index in range(begin, len(levels) + 20):
+        line.look(index, levels[index] if index < len(levels) else 1)
+    return line.readings
+
+
 def plain_is_right(shape, receiver, phase, signal, numbers):
     """Whether a signal is read right as a text, look by look."""
     found = plain_readings(shape, receiver, phase, signal)

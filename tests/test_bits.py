@@ -8,15 +8,7 @@ from startbits.bits import parsed, place_behind, places_along
 from startbits.readings import readings
 from startbits.shapes import levels_of, size_of
 from startbits.signals import sent_text
-from tests.reference import ALL_SHAPES, PlainReceiver, plain_frame
-
-
-def plain_parsed(shape, levels, begin):
-    """The readings of a list of levels, look by look."""
-    line = PlainReceiver(shape, (1, 0, 1))
-    for index in range(begin, len(levels) + 20):
-        line.look(index, levels[index] if index < len(levels) else 1)
-    return line.readings
+from tests.reference import ALL_SHAPES, PlainReceiver, plain_frame, plain_parsed
 
 
 def plain_place_behind(shape, place, levels):

@@ -4,7 +4,8 @@ import copy
 import inspect
 import unittest
 
-from startbits import bits, drift, errors, lengths, lone, midst, readings, shapes, signals, speeds
+from startbits import bits, drift, errors, lengths, lone, midst, mixed, readings, records, shapes, signals, speeds
+from startbits import telling
 from tests.calls import CALLS, JUDGMENTS
 
 GOOD_CALLS = [(function, valid) for function, valid, _ in CALLS] + JUDGMENTS
@@ -30,6 +31,17 @@ GOOD_CALLS += [
     (midst.step_text, {"shape": (2, "none", 1), "numbers": [2, 1]}),
     (midst.lasting_places, {"shape": (8, "none", 1), "numbers": [85]}),
     (midst.silence_paper, {"shape": (2, "even", 1), "numbers": [3], "many": 60}),
+    (mixed.read_by, {"shape": (7, "even", 1), "other": (8, "none", 1), "numbers": []}),
+    (mixed.wrong_text, {"shape": (5, "none", 1), "other": (5, "none", 2)}),
+    (mixed.silent_text, {"shape": (2, "none", 1), "other": (2, "none", 2)}),
+    (records.nth_text, {"shape": (3, "none", 1), "low": 2, "high": 4, "signal": [], "index": 0}),
+    (records.text_index, {"shape": (3, "none", 1), "low": 2, "high": 4, "signal": [], "numbers": []}),
+    (records.sure_numbers, {"shape": (3, "none", 1), "low": 2, "high": 4, "signal": []}),
+    (records.sure_numbers, {"shape": (3, "none", 1), "low": 2, "high": 2, "signal": [0, 2]}),
+    (telling.lengths_of, {"shape": (2, "none", 1), "signal": []}),
+    (telling.lengths_of, {"shape": (2, "none", 1), "signal": [0, 5, 8]}),
+    (telling.likenesses, {"shape": (8, "none", 1), "number": 85}),
+    (telling.telling_numbers, {"shape": (2, "none", 1), "lengths": [10, 13]}),
 ]
 
 PARAMETERS = {
@@ -57,6 +69,13 @@ PARAMETERS = {
            "place_behind": "shape place numbers"},
     midst: {"step_text": "shape numbers", "lasting_places": "shape numbers", "greatest_silence": "shape numbers",
             "silence_paper": "shape numbers many", "shows_silence": "shape numbers many value"},
+    mixed: {"read_by": "shape other numbers", "is_read_by": "shape other", "wrong_text": "shape other",
+            "silent_text": "shape other"},
+    records: {"is_possible": "shape low high signal", "count_texts": "shape low high signal",
+              "nth_text": "shape low high signal index", "text_index": "shape low high signal numbers",
+              "fewest_numbers": "shape low high signal", "most_numbers": "shape low high signal",
+              "sure_numbers": "shape low high signal", "least_high": "shape low signal"},
+    telling: {"lengths_of": "shape signal", "likenesses": "shape number", "telling_numbers": "shape lengths"},
 }
 
 

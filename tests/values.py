@@ -130,7 +130,7 @@ def short_text_faults(bits, least, most):
     return (told(errors.InvalidText, NO_LISTS + lists, index=None)
             + told(errors.InvalidText, [[number] for number in wrong] + [[-1, -1], [True, 0]], index=0)
             + told(errors.InvalidText, [[0, number, 1] for number in wrong] + [[1, -1, "x"]], index=1)
-            + told(errors.InvalidText, [list(range(most - 1)) + [1 << bits]], index=most - 1))
+            + told(errors.InvalidText, [[at % (1 << bits) for at in range(most - 1)] + [1 << bits]], index=most - 1))
 
 
 def allowed_faults(bits):
@@ -139,6 +139,27 @@ def allowed_faults(bits):
             + told(errors.InvalidText, [[0, 0], [3, 3, -1], [2, 2, None]], index=1)
             + told(errors.InvalidText, [[3, 1, 3], [0, 1, 0, 1], [0, 1, True]], index=2)
             + told(errors.InvalidText, [list(range(19)) + [7], list(range(19)) + [18]], index=19))
+
+
+def short_signal_faults(most):
+    """What is no signal of at most so many changes."""
+    return (told(errors.InvalidSignal, NO_LISTS + [list(range(most + 1)), [None] * (most + 1), [0] * 801], index=None)
+            + told(errors.InvalidSignal, [[tick] for tick in NO_INTEGERS] + [[None, 3, 2], ["a"] * most], index=0)
+            + told(errors.InvalidSignal, [[0, tick, 5] for tick in NO_INTEGERS], index=1)
+            + told(errors.InvalidSignal, [[0, 0], [3, 2, 4], [0, -1, "x"], [HUGE, 1]], index=1)
+            + told(errors.InvalidSignal, [[-2, -1, -1], [0, 3, True]], index=2)
+            + told(errors.InvalidSignal, [list(range(most - 1)) + [tick] for tick in (most - 2, "x")], index=most - 1))
+
+
+def ascending_lengths_faults():
+    """What is no ascending list of 2 to 8 lengths."""
+    wrong = NO_INTEGERS + [0, -1, -HUGE]
+    lists = [[], [1], [None], list(range(1, 10)), [0] * 9, (10, 20)]
+    return (told(errors.InvalidLengths, NO_LISTS + lists, index=None)
+            + told(errors.InvalidLengths, [[length, 20] for length in wrong] + [[0, 0], [None, None]], index=0)
+            + told(errors.InvalidLengths, [[10, length, 20] for length in wrong + [10, 9, 1]], index=1)
+            + told(errors.InvalidLengths, [[10, 20, length] for length in [20, 19, 10, True]], index=2)
+            + told(errors.InvalidLengths, [[1, 2, 3, 4, 5, 6, 7, length] for length in (7, 0, None)], index=7))
 
 
 def levels_faults():
