@@ -7,7 +7,7 @@ but not yet sent. Both of these are None if what is read is not the text, howeve
 """
 
 from startbits.bits import parsed
-from startbits.checks import check_shape, check_text
+from startbits.checks import check_shape
 from startbits.places import WAITING, place_after
 from startbits.shapes import frame_of, levels_of, parity_of, size_of
 
@@ -18,8 +18,9 @@ def read_by(shape, other, numbers):
     """What a receiver with the other shape reads of a text without gaps."""
     check_shape(shape)
     check_shape(other)
-    check_text(shape, numbers)
-    return parsed(other, levels_of(shape, numbers), 0)
+    # This checks the text, too.
+    levels = levels_of(shape, numbers)
+    return parsed(other, levels, 0)
 
 
 def is_read_by(shape, other):

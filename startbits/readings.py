@@ -2,7 +2,7 @@
 
 from startbits.checks import check_phase, check_receiver, check_shape, check_signal, check_text, check_tick
 from startbits.errors import InvalidReceiver
-from startbits.walk import first_from, frame_looks, frames_along, idle_from, readings_along, reads
+from startbits.walk import first_from, frame_looks, readings_along, reads, state_along
 
 
 def is_receiver(value):
@@ -47,19 +47,7 @@ def state_behind(shape, receiver, phase, signal, tick):
     """The state of a receiver behind all its looks up to a tick, this tick included."""
     _check_line(shape, receiver, phase, signal)
     check_tick(tick)
-    frames = frames_along(shape, receiver, phase, signal)
-    begun = [frame for frame in frames if frame[0] <= tick]
-    if not begun:
-        return ("idle", None)
-    start, end, _, _ = begun[-1]
-    if tick < end:
-        coming = [look for look in frame_looks(shape, receiver, start) if look > tick]
-        return ("frame", coming[0])
-    free = idle_from(receiver, signal, begun[-1])
-    # The look ahead of this one ends the frame, or the time in which the receiver is waiting.
-    if free is None or tick < free - receiver[0]:
-        return ("waiting", None)
-    return ("idle", None)
+    return state_along(shape, receiver, phase, signal, tick)
 
 
 def _check_line(shape, receiver, phase, signal):

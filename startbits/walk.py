@@ -99,3 +99,20 @@ def reads(shape, receiver, phase, signal, numbers):
     """Whether all readings of a receiver with a phase are good, and their numbers a text."""
     found = readings_along(shape, receiver, phase, signal)
     return all([word == "good" for _, word, _ in found]) and [number for _, _, number in found] == numbers
+
+
+def state_along(shape, receiver, phase, signal, tick):
+    """The state of a receiver behind all its looks up to a tick, this tick included."""
+    frames = frames_along(shape, receiver, phase, signal)
+    begun = [frame for frame in frames if frame[0] <= tick]
+    if not begun:
+        return ("idle", None)
+    start, end, _, _ = begun[-1]
+    if tick < end:
+        coming = [look for look in frame_looks(shape, receiver, start) if look > tick]
+        return ("frame", coming[0])
+    free = idle_from(receiver, signal, begun[-1])
+    # The look ahead of this one ends the frame, or the time in which the receiver is waiting.
+    if free is None or tick < free - receiver[0]:
+        return ("waiting", None)
+    return ("idle", None)

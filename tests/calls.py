@@ -1,7 +1,7 @@
 """Each function that raises errors, with a valid call and what is wrong for each argument."""
 
-from startbits import bits, drift, errors, lengths, lone, midst, mixed, readings, records, shapes, signals, speeds
-from startbits import telling
+from startbits import bits, drift, errors, flow, lengths, lone, midst, mixed, readings, records, shapes, signals
+from startbits import speeds, telling, texts
 from tests import values
 
 SHAPE = (3, "even", 1)
@@ -28,7 +28,7 @@ LENGTH_FAULTS = integers_from(errors.InvalidLength, 1)
 SENDING_FAULTS = values.sending_faults(BITS, FRAME_TICKS)
 LASTS_FAULTS = values.lasts_faults(12)
 RECEIVER_FAULTS = values.receiver_faults()
-PHASE_FAULTS = values.integer_faults(errors.InvalidPhase, [])
+PHASE_FAULTS = values.phase_faults()
 FIRST_PHASE_FAULTS = values.integer_faults(errors.InvalidPhase, [-1, 10, 11, BIG, -BIG])
 FROM_0_FAULTS = integers_from(errors.InvalidNumber, 0)
 FROM_1_FAULTS = integers_from(errors.InvalidNumber, 1)
@@ -183,8 +183,32 @@ TELLING_CALLS = [
      {"shape": SHAPE_FAULTS, "lengths": values.ascending_lengths_faults()}),
 ]
 
+FLOW = {"flow": (10, 8, 2, 0, 2)}
+RUN = {**FLOW, "size": 3, "many": 3, "takes": [30, 30, 31]}
+FLOW_FAULTS = {"flow": values.flow_faults()}
+RUN_FAULTS = {**FLOW_FAULTS, "size": FROM_1_FAULTS,
+              "many": values.integer_faults(errors.InvalidNumber, [-1, 61, BIG, -BIG]), "takes": values.takes_faults()}
+UNSAFE_FAULTS = values.integer_faults(errors.InvalidLength, [0, 1, 150, 180, -1, BIG, -BIG])
+
+FLOW_CALLS = [
+    (flow.run_flow, RUN, RUN_FAULTS),
+    (flow.lost_in, RUN, RUN_FAULTS),
+    (flow.most_waiting, FLOW, FLOW_FAULTS),
+    (flow.least_low, {**FLOW, "every": 10},
+     {**FLOW_FAULTS, "every": values.integer_faults(errors.InvalidNumber, [9, 0, -10, -BIG])}),
+    (flow.worst_delay, {"shape": (8, "none", 1), "receiver": RECEIVER, "length": 160},
+     {"shape": SHAPE_FAULTS, "receiver": RECEIVER_FAULTS, "length": UNSAFE_FAULTS}),
+]
+
+TEXT_CALLS = [
+    (texts.parse_shape, {"text": "7e2"}, {"text": values.shape_text_faults()}),
+    (texts.parse_signal, {"text": "-5 0 12"}, {"text": values.signal_text_faults()}),
+    (texts.parse_sending, {"shape": SHAPE, "length": 5, "text": "0:5 30:0 65:1"},
+     {"shape": SHAPE_FAULTS, "length": LENGTH_FAULTS, "text": values.sending_text_faults(BITS, FRAME_TICKS)}),
+]
+
 CALLS = SHAPE_CALLS + SIGNAL_CALLS + READING_CALLS + SPEED_CALLS + DRIFT_CALLS + LENGTH_CALLS + BIT_CALLS + MIDST_CALLS
-CALLS += MIXED_CALLS + RECORD_CALLS + TELLING_CALLS
+CALLS += MIXED_CALLS + RECORD_CALLS + TELLING_CALLS + FLOW_CALLS + TEXT_CALLS
 
 # The functions that judge any value and raise no error.
 JUDGMENTS = [(shapes.is_shape, {"value": SHAPE}), (signals.is_signal, {"value": [0, 3, 7]}),

@@ -4,8 +4,8 @@ import copy
 import inspect
 import unittest
 
-from startbits import bits, drift, errors, lengths, lone, midst, mixed, readings, records, shapes, signals, speeds
-from startbits import telling
+from startbits import bits, console, drift, errors, flow, lengths, live, lone, midst, mixed, readings, records, shapes
+from startbits import signals, speeds, telling, texts
 from tests.calls import CALLS, JUDGMENTS
 
 GOOD_CALLS = [(function, valid) for function, valid, _ in CALLS] + JUDGMENTS
@@ -42,6 +42,14 @@ GOOD_CALLS += [
     (telling.lengths_of, {"shape": (2, "none", 1), "signal": [0, 5, 8]}),
     (telling.likenesses, {"shape": (8, "none", 1), "number": 85}),
     (telling.telling_numbers, {"shape": (2, "none", 1), "lengths": [10, 13]}),
+    (flow.run_flow, {"flow": (10, 8, 2, 0, 2), "size": 1, "many": 0, "takes": []}),
+    (flow.run_flow, {"flow": (10, 8, 2, 0, 2), "size": 1, "many": 0, "takes": [0]}),
+    (texts.format_shape, {"shape": (7, "even", 2)}),
+    (texts.format_signal, {"signal": [-5, 10 ** 20]}),
+    (texts.format_sending, {"sending": [(0, 65), (1600, 3)]}),
+    (texts.format_readings, {"entries": [(0, "good", 65), (1604, "break", 0)]}),
+    (texts.parse_signal, {"text": ""}),
+    (texts.parse_sending, {"shape": (8, "none", 1), "length": 160, "text": ""}),
 ]
 
 PARAMETERS = {
@@ -76,7 +84,19 @@ PARAMETERS = {
               "fewest_numbers": "shape low high signal", "most_numbers": "shape low high signal",
               "sure_numbers": "shape low high signal", "least_high": "shape low signal"},
     telling: {"lengths_of": "shape signal", "likenesses": "shape number", "telling_numbers": "shape lengths"},
+    flow: {"run_flow": "flow size many takes", "lost_in": "flow size many takes", "most_waiting": "flow",
+           "least_low": "flow every", "worst_delay": "shape receiver length"},
+    texts: {"format_shape": "shape", "format_signal": "signal", "format_sending": "sending",
+            "format_readings": "entries", "parse_shape": "text", "parse_signal": "text",
+            "parse_sending": "shape length text"},
 }
+
+METHODS = {
+    live.Line: {"__init__": "self shape receiver phase", "set_level": "self level tick", "wait": "self tick",
+                "undo": "self", "would_be": "self", "fork": "self", "__eq__": "self other", "__len__": "self"},
+    console.Console: {"__init__": "self", "execute": "self command"},
+}
+PROPERTIES = ["tick", "level", "signal", "readings", "state", "next_look", "log"]
 
 
 def lists_in(value):
@@ -149,6 +169,15 @@ class InterfaceTest(unittest.TestCase):
                 self.assertTrue(inspect.isfunction(function))
                 self.assertEqual(function.__module__, module.__name__)
                 self.assertEqual(list(inspect.signature(function).parameters), parameters.split())
+
+    def test_classes_have_their_methods_themselves(self):
+        for kind, methods in METHODS.items():
+            for name, parameters in methods.items():
+                method = vars(kind)[name]
+                self.assertTrue(inspect.isfunction(method))
+                self.assertEqual(list(inspect.signature(method).parameters), parameters.split())
+        self.assertEqual((live.Line.__module__, console.Console.__module__), ("startbits.live", "startbits.console"))
+        self.assertTrue(all(isinstance(vars(live.Line)[name], property) for name in PROPERTIES))
 
 
 if __name__ == "__main__":

@@ -18,10 +18,10 @@ PARTS = """
     Eq NotEq Lt LtE Gt GtE Is IsNot In NotIn Load Store
 """.split()
 
-# L8, without those that a later rule removes, and L5 for super.
+# L8, without those that a later rule removes, and L5 for super and property.
 BUILTINS = """
     len range enumerate zip min max sum abs sorted reversed int str bool list tuple dict set isinstance ord repr
-    any all divmod super Exception ValueError TypeError KeyError IndexError LookupError ZeroDivisionError
+    any all divmod super property Exception ValueError TypeError KeyError IndexError LookupError ZeroDivisionError
 """.split()
 
 # L25, first list.
@@ -177,8 +177,36 @@ class LanguageTest(unittest.TestCase):
         for place, node in self.nodes(ast.Raise):
             self.assertIsInstance(node.exc, ast.Call, place)
             self.assertIn(node.exc.func.id, defined_in(self.trees["errors"]), place)
+
+    def test_decorators(self):
+        in_classes = [row for _, node in self.nodes(ast.ClassDef) for row in node.body]
         for place, node in self.nodes(ast.FunctionDef, ast.ClassDef):
-            self.assertEqual(node.decorator_list, [], place)
+            names = [decorator.id for decorator in node.decorator_list]
+            self.assertIn(names, [[], ["property"]], place)
+            self.assertTrue(names == [] or node in in_classes, place)
+
+    def test_classes(self):
+        for place, node in self.nodes(ast.ClassDef):
+            methods = [row.name for row in node.body if isinstance(row, ast.FunctionDef)]
+            self.assertEqual(len(set(methods)), len(methods), place)
+            kept = [target.attr for target in ast.walk(node)
+                    if isinstance(target, ast.Attribute) and isinstance(target.ctx, ast.Store)]
+            # L18: no name is a method and an attribute in one class.
+            self.assertFalse(set(methods) & set(kept), place)
+            special = [name for name in methods if name.startswith("__")]
+            self.assertLessEqual(set(special), {"__init__", "__eq__", "__len__"}, place)
+
+    def test_properties_change_nothing_but_their_own_lists(self):
+        for place, node in self.nodes(ast.FunctionDef):
+            if not node.decorator_list:
+                continue
+            own = [row.targets[0].id for row in node.body if isinstance(row, ast.Assign)
+                   and isinstance(row.value, (ast.List, ast.ListComp))]
+            for inner in ast.walk(node):
+                if isinstance(inner, (ast.Attribute, ast.Subscript)):
+                    self.assertIsInstance(inner.ctx, ast.Load, place)
+                if isinstance(inner, ast.Attribute) and inner.attr in ("append", "pop"):
+                    self.assertIn(inner.value.id, own, place)
 
 
 if __name__ == "__main__":

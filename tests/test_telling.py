@@ -161,6 +161,14 @@ class LengthsOfTest(unittest.TestCase):
             for signal in ([], [0], [-7, 5, 9], list(range(0, 799 * 2, 2)), list(range(799))):
                 self.assertEqual(lengths_of(shape, signal), [])
 
+    def test_runs_with_very_many_levels(self):
+        far = 10 ** 29
+        for shape in [(1, "none", 1), (8, "none", 1)]:
+            top = 2 ** shape[0] - 1
+            for signal in ([0, 1, far, 2 * far], [0, 1, 40, 40 + far], [0, 1, far, far + 1, far + 2, 3 * far]):
+                self.assertEqual(lengths_of(shape, signal), [])
+            self.assertEqual(lengths_of(shape, [0, 1, far, far + 1]), [(1, [top, top])])
+
     def test_eight_hundred_changes(self):
         shape = (9, "none", 1)
         for by in (1, 10 ** 27):

@@ -123,6 +123,11 @@ def receiver_faults():
     return faults
 
 
+def phase_faults():
+    """What is no phase."""
+    return integer_faults(errors.InvalidPhase, [])
+
+
 def short_text_faults(bits, least, most):
     """What is no list of so many numbers of a shape with so many bits."""
     wrong = NO_INTEGERS + [-1, 1 << bits, HUGE]
@@ -160,6 +165,82 @@ def ascending_lengths_faults():
             + told(errors.InvalidLengths, [[10, length, 20] for length in wrong + [10, 9, 1]], index=1)
             + told(errors.InvalidLengths, [[10, 20, length] for length in [20, 19, 10, True]], index=2)
             + told(errors.InvalidLengths, [[1, 2, 3, 4, 5, 6, 7, length] for length in (7, 0, None)], index=7))
+
+
+def flow_faults():
+    """What is no flow."""
+    shapes = [[1600, 1520, 100, 1, 3], (), (1600, 1520, 100, 1), (1600, 1520, 100, 1, 3, 0)]
+    faults = told(errors.InvalidFlow, NO_TUPLES + shapes, index=None)
+    for index in range(3):
+        for item in NO_INTEGERS + [0, -1, -HUGE]:
+            flow = [1600, 1520, 100, 1, 3]
+            flow[index] = item
+            faults += told(errors.InvalidFlow, [tuple(flow)], index=index)
+    faults += told(errors.InvalidFlow, [(1, 1, 1, low, 3) for low in NO_INTEGERS + [-1, -HUGE]], index=3)
+    faults += told(errors.InvalidFlow, [(1, 1, 1, 2, high) for high in NO_INTEGERS + [2, 1, 0, -1, -HUGE]], index=4)
+    faults += told(errors.InvalidFlow, [(1, 1, 1, 0, 0), (1, 1, 1, HUGE, HUGE)], index=4)
+    faults += told(errors.InvalidFlow, [(0, 0, 0, -1, -1), (None,) * 5, (True, 1, 1, 0, 1)], index=0)
+    faults += told(errors.InvalidFlow, [(1, 0, 0, 0, 0)], index=1)
+    faults += told(errors.InvalidFlow, [(1, 1, 1, -1, -1), (1, 1, 1, None, None)], index=3)
+    return faults
+
+
+def takes_faults():
+    """What is no list of at most 60 takes."""
+    wrong = NO_INTEGERS + [-1, -HUGE]
+    return (told(errors.InvalidTakes, NO_LISTS + [[0] * 61, [None] * 61, [-1] * 61], index=None)
+            + told(errors.InvalidTakes, [[tick] for tick in wrong] + [[-1, -2], [None, 0]], index=0)
+            + told(errors.InvalidTakes, [[5, tick, 7] for tick in wrong + [4, 0]] + [[HUGE, 1]], index=1)
+            + told(errors.InvalidTakes, [[5, 5, 6, 5], [0, 0, 0, False]], index=3)
+            + told(errors.InvalidTakes, [[1] * 59 + [0], [1] * 59 + ["x"]], index=59))
+
+
+NO_STRINGS = [value for value in NO_INTEGERS if not isinstance(value, str)] + [0, 1, HUGE, ["8n1"], ("8n1",), b"8n1"]
+
+# No text of an integer: the last ones have other digits than 0 to 9, and more than 30 of them.
+NO_NUMBERS = ["", "-", "+", "+1", "-0", "--1", "00", "01", "-01", "1.0", "1e3", "0x1", "1_0", "one", "1-", "None",
+              "\n", "1\n", "\n1", "\t1", "1\t", "1,", ",", chr(0x661), chr(0xb2), chr(0xff11), "1" + chr(0x662),
+              "1" + "0" * 30, "-1" + "0" * 30, "9" * 31]
+
+
+def shape_text_faults():
+    """What is no text of a shape."""
+    wrong = ["", "8", "8n", "8n1x", "x8n1", "08n1", "0n1", "10n1", "8n0", "8n3", "8N1", "8x1", "8 n1", "n81", "8nn",
+             "-8n1", "8none1", "8n1\n", "\n8n1", chr(0x668) + "n1", "8n" + chr(0xb9), "8:n1", "(8,", "888", "nnn"]
+    return (told(errors.InvalidSyntax, NO_STRINGS, word=None)
+            + told(errors.InvalidSyntax, wrong + [" ", "  ", " 8n1", "8 n 1", "x 8n1", "8n 1"], word=0)
+            + told(errors.InvalidSyntax, ["8n1 ", "8n1 8n1", "8n1  ", "8n1 x", "7e2  8n1"], word=1))
+
+
+def signal_text_faults():
+    """What is no text of a signal."""
+    full = [str(3 * tick) for tick in range(800)]
+    wrong = NO_NUMBERS[1:]
+    return (told(errors.InvalidSyntax, NO_STRINGS, word=None)
+            + told(errors.InvalidSyntax, wrong + [word + " 5" for word in wrong] + [" ", " 5", "5:1", "- 5"], word=0)
+            + told(errors.InvalidSyntax, ["5 " + word for word in NO_NUMBERS] + ["5 5", "5 4", "5 -6", "5  6"], word=1)
+            + told(errors.InvalidSyntax, ["-5 0 0", "-5 -4 -4", "0 1 ", "0 1  2", "0 1 x y"], word=2)
+            + told(errors.InvalidSyntax, [" ".join(full[:-1] + [word]) for word in ("2394", "x", "")], word=799)
+            + told(errors.InvalidSyntax, [" ".join(full + [word]) for word in ("2400", "x", "", "0", "2400 x")],
+                   word=800))
+
+
+def sending_text_faults(bits, frame_ticks):
+    """What is no text of a sending of a shape with so many bits, if a frame lasts so many ticks."""
+    full = [f"{frame_ticks * at}:0" for at in range(60)]
+    numbers = NO_NUMBERS + ["-1", str(1 << bits)]
+    wrong = [word + ":0" for word in NO_NUMBERS] + ["0:" + word for word in numbers]
+    wrong += ["0", ":", "0:0:0", "0::0", ":0:0", "0:0:", "0;0", "0:good:0", "(0,0)"]
+    near = f"{frame_ticks - 1}:0"
+    return (told(errors.InvalidSyntax, NO_STRINGS, word=None)
+            + told(errors.InvalidSyntax, wrong + [word + f" {frame_ticks}:0" for word in wrong] + [" ", " 0:0"], word=0)
+            + told(errors.InvalidSyntax, [f"-{frame_ticks}:0 {word}" for word in wrong + [""]], word=1)
+            + told(errors.InvalidSyntax, [f"0:0 {near}", "0:0 0:0", "0:0 -1:0", f"0:0  {near}", "0:0 "], word=1)
+            + told(errors.InvalidSyntax, [f"0:0 {frame_ticks}:0 ", f"0:0 {frame_ticks}:0 {2 * frame_ticks - 1}:0"],
+                   word=2)
+            + told(errors.InvalidSyntax, [" ".join(full[:-1] + [word]) for word in ("0:0", "x", "")], word=59)
+            + told(errors.InvalidSyntax, [" ".join(full + [word]) for word in (f"{60 * frame_ticks}:0", "x", "")],
+                   word=60))
 
 
 def levels_faults():
